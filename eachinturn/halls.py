@@ -1,6 +1,6 @@
 """Webs of places and roads, and halls: webs with states and rules."""
 
-from eachinturn.errors import BadHall, BadPlace, BadState, BadWeb
+from eachinturn.errors import BadHall, BadOrder, BadPlace, BadState, BadWeb
 from eachinturn.rules import are_states, is_integer, is_rule, power, rule_table
 
 LONGEST_NAME = 8
@@ -63,10 +63,26 @@ def need_place(web, place):
         raise BadPlace("this is no place of the web")
 
 
+def need_order(web, order):
+    """Raise BadOrder if this is no order of the web."""
+    if not _is_order(order, web[0]):
+        raise BadOrder("this is no order of the web")
+
+
+def _is_order(thing, places):
+    if not isinstance(thing, tuple) or len(thing) != len(places):
+        return False
+    return all([_is_one_of(place, places) for place in thing]) and len(set(thing)) == len(thing)
+
+
+def are_joined(web, one, other):
+    """Tell whether there is a road between two places, both being known to be right."""
+    return (one, other) in web[1] or (other, one) in web[1]
+
+
 def near_of(web, place):
     """Return the neighbours of a place, both being known to be right."""
-    places, roads = web
-    return tuple([other for other in places if (place, other) in roads or (other, place) in roads])
+    return tuple([other for other in web[0] if are_joined(web, place, other)])
 
 
 def neighbours(web, place):
@@ -147,6 +163,11 @@ def with_tables(hall):
 def states_of(hall):
     """Return the ascending list of all states of a hall."""
     need_hall(hall)
+    return every_state(hall)
+
+
+def every_state(hall):
+    """Return the ascending list of all states of a hall that is known to be one."""
     states = [()]
     for _ in hall[1][0]:
         states = [state + (own,) for state in states for own in range(hall[0])]
@@ -157,6 +178,11 @@ def number_of(hall, state):
     """Return the index of a state in the list of all states of a hall."""
     need_hall(hall)
     need_state(hall, state)
+    return state_number(hall, state)
+
+
+def state_number(hall, state):
+    """Return the index of a state, hall and state being known to be right."""
     number = 0
     for own in state:
         number = number * hall[0] + own

@@ -1,58 +1,14 @@
 """What holds of all functions: which error comes first, names of arguments, nothing changed, nothing kept."""
 
 import gc
+import inspect
 import unittest
 import weakref
 
 from eachinturn import halls, rows
-from eachinturn.errors import BadHall, BadPlace, BadRows, BadState, BadWeb
-from tests.helpers import (
-    EIGHT, EVERY_SORT, H, H_TEXT, PAIRS, THREE_STATES, WEB, Hostile, LikeAll, as_lists, frozen, never_right,
-    odd_objects,
-)
-
-RIGHT = {"web": WEB, "hall": H, "place": "b", "state": (1, 0, 0)}
-ERRORS = {"web": BadWeb, "hall": BadHall, "place": BadPlace, "state": BadState}
-
-# Each function that raises for an argument, the names of its arguments, and what it returns for RIGHT.
-FUNCTIONS = [
-    (halls.neighbours, ("web", "place"), ("a", "c")),
-    (halls.pieces, ("web",), [("a", "b", "c")]),
-    (halls.is_forest, ("web",), True),
-    (halls.table_of, ("hall", "place"), (0, 1, 1, 0, 1, 0, 0, 1)),
-    (halls.with_tables, ("hall",), (
-        2, WEB, (("table", (0, 0, 1, 1)), ("table", (0, 1, 1, 0, 1, 0, 0, 1)), ("table", (0, 0, 1, 1))),
-    )),
-    (halls.states_of, ("hall",), [(a, b, c) for a in (0, 1) for b in (0, 1) for c in (0, 1)]),
-    (halls.number_of, ("hall", "state"), 4),
-    (rows.write_hall, ("hall",), H_TEXT),
-]
-
-NEAR_WEBS = [
-    H, (EIGHT + ("i",), ()), (EIGHT, PAIRS[:15]), (("a", "b", "b"), (("a", "b"),)), (("b",), (("b", "b"),)),
-    (("b", "a"), (("a", "b"), ("b", "a"))), (("b", "A"), ()), (("b", "abcdefghi"), ()), (("b",), ()) + ((),),
-    (("b",), (("b", "c"),)), (("b", True), ()), (("b", 1), ()), ("b", ()),
-]
-NEAR_HALLS = [
-    WEB, (True, WEB, H[2]), (1, WEB, H[2]), (4, WEB, H[2]), (2, WEB, H[2][:2]), (2, WEB, H[2] + (("keep",),)),
-    (2, WEB, (("copy", "c"), ("odd",), ("copy", "b"))), (2, WEB, (("most", 10), ("odd",), ("keep",))),
-    (2, WEB, (("most", True), ("odd",), ("keep",))), (3, (EIGHT[:6], ()), (("keep",),) * 6), H + (None,), H[:2],
-    (2, WEB, (("table", (0, 1, 0, 2)), ("odd",), ("keep",))),
-    (2, WEB, (("table", (0, 1, 0, True)), ("odd",), ("keep",))),
-    (2, (("a", "b", "c"), (("a", "b"), ("b", "c"), ("c", "b"))), H[2]),
-]
-NEAR_PLACES = ["d", "A", "B", "ab", "bc", "b ", " b", "b\n", 0, 1, 2, ("b",), ["b"], b"b", {"b"}, {"b": "b"}]
-NEAR_STATES = [
-    (1, 0), (1, 0, 0, 0), (2, 0, 0), (0, 0, 2), (0, -1, 0), (True, 0, 0), (1, False, 0), (1, 0, False), [1, 0, 0],
-    (1, 0, None), (1, 0, "0"), ((1,), (0,), (0,)), 4, "100", (), {0: 1, 1: 0, 2: 0}, ((1, 0, 0),), (1, 0, 10 ** 59),
-]
-
-WRONG = {
-    "web": lambda: odd_objects() + NEAR_WEBS + list(as_lists(WEB)),
-    "hall": lambda: odd_objects() + NEAR_HALLS + list(as_lists(H)),
-    "place": lambda: [thing for thing in odd_objects() if thing is not None] + [None] + NEAR_PLACES,
-    "state": lambda: odd_objects() + NEAR_STATES,
-}
+from eachinturn.errors import BadPlace, BadRows, BadState
+from tests.calls import ANY, CALLS, error_for, kind_of, wrong_ones
+from tests.helpers import H, H_TEXT, THREE_STATES, WEB, Hostile, LikeAll, as_lists, frozen, never_right
 
 
 def error_of(function, arguments):
@@ -64,33 +20,66 @@ def error_of(function, arguments):
     return None
 
 
+def told_names(function, arguments):
+    """The arguments that are wrong if they are none of their kind, in their sequence."""
+    return [name for name in arguments if name not in ANY]
+
+
+def copied(thing):
+    """The same, with all lists new."""
+    if isinstance(thing, list):
+        return [copied(part) for part in thing]
+    return thing
+
+
+def fresh(arguments):
+    return {name: copied(worth) for name, worth in arguments.items()}
+
+
 class WrongArgumentsTest(unittest.TestCase):
     def test_each_argument_that_is_none_of_its_kind(self):
-        for function, names, _ in FUNCTIONS:
-            for name in names:
-                for wrong in WRONG[name]():
-                    arguments = {other: RIGHT[other] for other in names}
-                    arguments[name] = wrong
-                    self.assertIs(error_of(function, arguments), ERRORS[name], (function.__name__, name))
+        for function, arguments in CALLS:
+            for name in told_names(function, arguments):
+                for wrong in wrong_ones(function, name, arguments[name]):
+                    changed = {**fresh(arguments), name: wrong}
+                    self.assertIs(error_of(function, changed), error_for(function, name), (function.__name__, name))
 
     def test_the_first_that_is_not_right_tells_the_error(self):
-        for function, names, _ in FUNCTIONS:
+        for function, arguments in CALLS:
+            names = told_names(function, arguments)
             for at, name in enumerate(names[:-1]):
-                for wrong in WRONG[name]():
-                    for later in WRONG[names[at + 1]]():
-                        arguments = {other: RIGHT[other] for other in names}
-                        arguments[name] = wrong
-                        arguments[names[at + 1]] = later
-                        self.assertIs(error_of(function, arguments), ERRORS[name], (function.__name__, name))
+                later = [wrong_ones(function, other, arguments[other]) for other in names[at + 1:]]
+                for number, wrong in enumerate(wrong_ones(function, name, arguments[name])):
+                    changed = {**fresh(arguments), name: wrong}
+                    for other, wrongs in zip(names[at + 1:], later):
+                        changed[other] = wrongs[number % len(wrongs)]
+                    self.assertIs(error_of(function, changed), error_for(function, name), (function.__name__, name))
+
+    def test_the_first_of_each_two_that_stand_side_by_side(self):
+        for function, arguments in CALLS:
+            names = told_names(function, arguments)
+            for name, other in zip(names, names[1:]):
+                for wrong in wrong_ones(function, name, arguments[name])[::5]:
+                    for later in wrong_ones(function, other, arguments[other])[::5]:
+                        changed = {**fresh(arguments), name: wrong, other: later}
+                        self.assertIs(error_of(function, changed), error_for(function, name), function.__name__)
+
+    def test_what_judges_any_object_comes_behind_the_others(self):
+        for function, arguments in CALLS:
+            if "thing" in arguments:
+                for name in told_names(function, arguments):
+                    for wrong in wrong_ones(function, name, arguments[name])[::3]:
+                        for thing in (None, Hostile(), arguments["thing"]):
+                            changed = {**arguments, name: wrong, "thing": thing}
+                            self.assertIs(error_of(function, changed), error_for(function, name), function.__name__)
 
     def test_by_position_too(self):
-        for function, names, _ in FUNCTIONS:
-            for at, name in enumerate(names):
-                for wrong in (None, Hostile(), LikeAll(), [], {}, True):
-                    arguments = [RIGHT[other] for other in names]
-                    arguments[at] = wrong
-                    with self.assertRaises(ERRORS[name]):
-                        function(*arguments)
+        for function, arguments in CALLS:
+            for name in told_names(function, arguments):
+                for wrong in (None, Hostile(), LikeAll(), {}, True):
+                    changed = {**fresh(arguments), name: wrong}
+                    with self.assertRaises(error_for(function, name)):
+                        function(*changed.values())
 
     def test_a_place_of_another_web(self):
         web = (("x", "y"), (("x", "y"),))
@@ -109,57 +98,59 @@ class WrongArgumentsTest(unittest.TestCase):
         self.assertEqual(halls.number_of(THREE_STATES, (0, 0, 2, 0)), 6)
 
     def test_truths_are_no_states(self):
-        for state in ((True, 0, 0), (0, True, 0), (0, 0, False), (True, True, True), (False, False, False)):
-            with self.assertRaises(BadState):
-                halls.number_of(H, state)
+        states = ((True, 0, 0), (0, True, 0), (0, 0, False), (True, True, True), (False, False, False))
+        for function, arguments in CALLS:
+            for name in told_names(function, arguments):
+                if kind_of(function, name) in ("state", "resting", "on a ring"):
+                    for state in states:
+                        self.assertIs(error_of(function, {**arguments, name: state}), BadState, function.__name__)
 
     def test_any_object_of_the_functions_that_judge(self):
-        for thing in odd_objects():
-            self.assertIs(halls.is_web(thing), False)
-            self.assertIs(halls.is_hall(thing), False)
+        for function, arguments in CALLS:
+            if "thing" in arguments:
+                self.assertIs(function(**arguments), True, function.__name__)
+                for thing in never_right() + list(as_lists(arguments["thing"])):
+                    self.assertIs(function(**{**arguments, "thing": thing}), False, function.__name__)
 
 
 class RightArgumentsTest(unittest.TestCase):
+    def test_the_arguments_are_those_of_the_function(self):
+        for function, arguments in CALLS:
+            self.assertEqual(list(inspect.signature(function).parameters), list(arguments), function.__name__)
+
     def test_by_position_and_by_name(self):
-        for function, names, expected in FUNCTIONS:
-            values = [RIGHT[name] for name in names]
+        for function, arguments in CALLS:
+            values, pairs = list(arguments.values()), list(arguments.items())
+            expected = function(*values)
             for result in (
-                function(*values),
-                function(**dict(zip(names, values))),
-                function(**dict(list(zip(names, values))[::-1])),
-                function(values[0], **dict(list(zip(names, values))[1:])),
+                function(**arguments),
+                function(**dict(pairs[::-1])),
+                function(values[0], **dict(pairs[1:])),
+                function(*values[:-1], **dict(pairs[-1:])),
             ):
                 self.assertEqual(result, expected, function.__name__)
-                self.assertIs(type(result), type(expected), function.__name__)
+                self.assertEqual(frozen(result), frozen(expected), function.__name__)
 
     def test_the_functions_that_take_any_object(self):
         self.assertIs(halls.is_web(thing=WEB), True)
         self.assertIs(halls.is_hall(thing=H), True)
         self.assertEqual(rows.read_hall(text=H_TEXT), H)
-        self.assertEqual(rows.read_hall(H_TEXT), H)
         with self.assertRaises(BadRows):
             rows.read_hall(text=None)
 
     def test_equal_calls_return_equal_results(self):
-        for function, names, expected in FUNCTIONS:
-            for _ in range(3):
-                self.assertEqual(function(*[RIGHT[name] for name in names]), expected)
+        first = [frozen(function(**arguments)) for function, arguments in CALLS]
+        for _ in range(2):
+            for told, (function, arguments) in list(zip(first, CALLS))[::-1]:
+                self.assertEqual(frozen(function(**arguments)), told, function.__name__)
 
 
 class NothingChangedTest(unittest.TestCase):
     def test_right_arguments(self):
-        for function, names, _ in FUNCTIONS:
-            arguments = {name: RIGHT[name] for name in names}
+        for function, arguments in CALLS:
             ahead = frozen(arguments)
             function(**arguments)
-            self.assertEqual(frozen(arguments), ahead)
-        for hall in (H, EVERY_SORT, THREE_STATES):
-            ahead = frozen(hall)
-            halls.is_hall(hall)
-            halls.is_web(hall[1])
-            rows.read_hall(rows.write_hall(hall))
-            halls.with_tables(hall)
-            self.assertEqual(frozen(hall), ahead)
+            self.assertEqual(frozen(arguments), ahead, function.__name__)
 
     def things(self):
         yield from never_right()
@@ -169,50 +160,67 @@ class NothingChangedTest(unittest.TestCase):
         yield [["b", "a"], [["b", "a"]]]
         yield (["c", "b", "a"], (("c", "a"),))
         yield {"b": ["z", "a"], "a": {1: [2]}}
+        yield [("swap", 1), ["turn"], ("turn",)]
+        yield [["copy", "b"], [1, 0]]
 
     def test_objects_that_are_none_of_their_kind(self):
-        for function in [function for function, _, _ in FUNCTIONS] + [halls.is_web, halls.is_hall, rows.read_hall]:
-            many = function.__code__.co_argcount
-            for thing in self.things():
-                ahead = frozen(thing)
-                try:
-                    function(*[thing] * many)
-                except ValueError:
-                    pass
-                self.assertEqual(frozen(thing), ahead, function.__name__)
+        for function, arguments in CALLS:
+            for name in arguments:
+                for thing in self.things():
+                    ahead = frozen(thing)
+                    error_of(function, {**fresh(arguments), name: thing})
+                    self.assertEqual(frozen(thing), ahead, (function.__name__, name))
 
-    def test_later_arguments(self):
-        for thing in self.things():
-            ahead = frozen(thing)
-            with self.assertRaises(BadPlace):
-                halls.neighbours(WEB, thing)
-            with self.assertRaises(BadPlace):
-                halls.table_of(H, thing)
-            with self.assertRaises(BadState):
-                halls.number_of(H, thing)
-            self.assertEqual(frozen(thing), ahead)
+
+def lists_in(thing):
+    """All lists in what was returned."""
+    if isinstance(thing, list):
+        yield thing
+    if isinstance(thing, (list, tuple)):
+        for part in thing:
+            yield from lists_in(part)
 
 
 class NothingKeptTest(unittest.TestCase):
     def test_no_reference_is_kept(self):
-        for function in (halls.is_web, halls.is_hall):
-            thing = Hostile()
-            seen = weakref.ref(thing)
-            for place in (thing, (thing, ()), ((thing,), ()), (2, thing, ()), (2, WEB, (thing, thing, thing))):
-                function(place)
-            del thing, place
-            gc.collect()
-            self.assertIsNone(seen())
+        for function, arguments in CALLS:
+            for name in arguments:
+                held = Hostile()
+                seen = weakref.ref(held)
+                for thing in (held, (held,), [held], (held, held), (held, ()), (2, held, ()), ((held,), (held,))):
+                    error_of(function, {**fresh(arguments), name: thing})
+                del held, thing
+                gc.collect(0)
+                self.assertIsNone(seen(), (function.__name__, name))
 
-    def test_lists_stand_in_one_place(self):
-        for function in (halls.pieces, halls.states_of):
-            argument = WEB if function is halls.pieces else H
-            one, other = function(argument), function(argument)
-            self.assertIsNot(one, other)
-            expected = list(other)
-            one.clear()
-            self.assertEqual(other, expected)
-            self.assertEqual(function(argument), expected)
+    def test_lists_that_were_handed_in_can_be_changed(self):
+        for function, arguments in CALLS:
+            handed = fresh(arguments)
+            found = function(**handed)
+            expected = frozen(found)
+            for worth in handed.values():
+                for told in list(lists_in(worth)):
+                    told.clear()
+            self.assertEqual(frozen(found), expected)
+            self.assertEqual(frozen(function(**arguments)), expected)
+
+    def test_returned_lists_are_new(self):
+        some = 0
+        for function, arguments in CALLS:
+            one, other = function(**arguments), function(**arguments)
+            expected = frozen(other)
+            lists = list(lists_in(one)) + list(lists_in(other)) + [
+                told for worth in arguments.values() for told in lists_in(worth)
+            ]
+            self.assertEqual(len({id(told) for told in lists}), len(lists), function.__name__)
+            for told in list(lists_in(one)):
+                some += 1
+                told.append(None)
+                told.reverse()
+                del told[1:]
+            self.assertEqual(frozen(other), expected, function.__name__)
+            self.assertEqual(frozen(function(**arguments)), expected, function.__name__)
+        self.assertGreater(some, 20)
 
 
 if __name__ == "__main__":

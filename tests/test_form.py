@@ -1,9 +1,11 @@
 """The interface as the document lists it, and the plain rules for the files of the package."""
 
 import ast
+import builtins
 import importlib
 import inspect
 import pathlib
+import re
 import unittest
 
 ROOT = pathlib.Path(__file__).resolve().parent.parent
@@ -16,7 +18,61 @@ INTERFACE = {
         "number_of": ["hall", "state"],
     },
     "eachinturn.rows": {"write_hall": ["hall"], "read_hall": ["text"]},
+    "eachinturn.days": {
+        "step": ["hall", "state", "place"], "day": ["hall", "order", "state"],
+        "story": ["hall", "order", "state", "count"], "after": ["hall", "order", "state", "count"],
+        "day_table": ["hall", "order"], "ahead_of": ["hall", "order", "state"], "without_past": ["hall", "order"],
+        "watched": ["hall", "order", "state", "place", "count"],
+        "first_unlike_day": ["hall", "order", "other", "state"],
+    },
+    "eachinturn.rings": {
+        "rings": ["hall", "order"], "ring_lengths": ["hall", "order"], "ring_of": ["hall", "order", "state"],
+        "deepest": ["hall", "order"], "return_paper": ["hall", "order", "state"],
+        "return_holds": ["hall", "order", "state", "thing"],
+        "same_far": ["hall", "order", "state", "other", "count"], "meet": ["hall", "order", "state", "other"],
+    },
+    "eachinturn.alike": {
+        "arrows": ["web", "order"], "are_alike": ["web", "order", "other"], "first_alike": ["web", "order"],
+        "count_alike": ["web", "order"], "order_for": ["web", "arrows"], "arrow_ring": ["web", "arrows"],
+        "arrow_ring_holds": ["web", "arrows", "thing"], "exchanges": ["web", "order", "other"],
+        "exchanges_hold": ["web", "order", "other", "thing"], "parting": ["web", "order", "other"],
+        "parting_holds": ["web", "order", "other", "thing"], "count_arrows": ["web"], "all_arrows": ["web"],
+    },
+    "eachinturn.turning": {
+        "forward": ["web", "order", "ring"], "moves_to": ["web", "order", "other"],
+        "moves_hold": ["web", "order", "other", "thing"], "moved_order": ["web", "order", "moves"],
+        "ring_between": ["web", "order", "other"], "ring_between_holds": ["web", "order", "other", "thing"],
+        "ring_counts": ["web", "order"], "only_first": ["web", "order", "place"], "count_classes": ["web"],
+        "classes": ["web"], "class_arrows": ["web", "order"], "turn_graph": ["web", "order"],
+    },
+    "eachinturn.carrying": {
+        "carried": ["hall", "order", "moves", "state"], "carried_ring": ["hall", "order", "moves", "ring"],
+        "ring_match": ["hall", "order", "moves"], "back_moves": ["web", "order", "moves"],
+        "match_shift": ["hall", "order", "moves", "state"], "same_lengths": ["hall", "order", "other"],
+        "length_table": ["hall"],
+    },
+    "eachinturn.staying": {
+        "stays": ["hall", "state"], "staying": ["hall"], "restless": ["hall", "state"],
+        "staying_with": ["hall", "partial"], "days_to_rest": ["hall", "order", "state"], "rests": ["hall", "order"],
+        "never_rest": ["hall", "order"], "rest_orders": ["hall", "state", "other"],
+    },
+    "eachinturn.undoing": {
+        "can_be_undone": ["hall"], "undo_paper": ["hall"], "undone_hall": ["hall"],
+        "day_before": ["hall", "order", "state"], "far_before": ["hall", "order", "state", "count"],
+        "turned_about": ["hall", "order"],
+    },
 }
+
+BUILTINS = set(
+    "len range enumerate zip min max sum abs sorted reversed int str bool list tuple dict set isinstance ord repr any all"
+    " ValueError".split()
+)
+METHODS = set(
+    "append clear copy count endswith extend find get index insert isalnum isalpha isdigit islower isspace isupper items"
+    " join keys ljust lower lstrip partition pop remove replace reverse rfind rjust rpartition rsplit rstrip setdefault"
+    " split splitlines startswith strip update upper values zfill bit_length add discard".split()
+)
+BARRED_WORDS = re.compile(r"\b(register|mro|elements|open|input|law|typing|enum|eval|exec|exit|getattr|vars|id|help)\b")
 
 
 def files():
@@ -69,6 +125,99 @@ class FilesTest(unittest.TestCase):
                 if isinstance(node, ast.ImportFrom):
                     self.assertEqual(node.level, 0, path)
                     self.assertTrue(node.module in library or node.module.startswith("eachinturn."), path)
+
+
+def trees():
+    for path in files():
+        yield path, ast.parse(path.read_text())
+
+
+def bound_names(tree):
+    """Names that functions bind: parameters and targets, those of comprehensions, too."""
+    for node in ast.walk(tree):
+        if isinstance(node, ast.arg):
+            yield node.arg
+        if isinstance(node, ast.Name) and not isinstance(node.ctx, ast.Load):
+            yield node.id
+
+
+class LanguageTest(unittest.TestCase):
+    """What can be seen at once of ../shared/LANGUAGE.md; the rules there are many more."""
+
+    def test_interface_functions_are_defined_where_they_are_listed(self):
+        for module_name, functions in INTERFACE.items():
+            path = ROOT / (module_name.replace(".", "/") + ".py")
+            found = [node.name for node in ast.parse(path.read_text()).body if isinstance(node, ast.FunctionDef)]
+            self.assertLessEqual(set(functions), set(found), path)
+
+    def test_names_that_are_used_and_bound(self):
+        for path, tree in trees():
+            imports = {alias.name for node in tree.body if isinstance(node, ast.ImportFrom) for alias in node.names}
+            defined = [node.name for node in tree.body if isinstance(node, (ast.FunctionDef, ast.ClassDef))]
+            classes = {node.name for node in tree.body if isinstance(node, ast.ClassDef)}
+            bound = set(bound_names(tree))
+            self.assertEqual(len(defined), len(set(defined)), path)
+            self.assertFalse(set(defined) & imports, path)
+            self.assertFalse(bound & (imports | classes), path)
+            self.assertFalse((bound | set(defined)) & set(dir(builtins)), path)
+            used = {node.id for node in ast.walk(tree) if isinstance(node, ast.Name) and isinstance(node.ctx, ast.Load)}
+            self.assertLessEqual(used - bound - imports - set(defined), BUILTINS, path)
+            self.assertLessEqual(imports, used, path)
+
+    def test_what_the_language_has_not(self):
+        for path, tree in trees():
+            for node in ast.walk(tree):
+                self.assertNotIsInstance(
+                    node, (ast.Div, ast.GeneratorExp, ast.Lambda, ast.Try, ast.Global, ast.With, ast.Yield), path,
+                )
+                if isinstance(node, ast.Constant):
+                    self.assertNotIsInstance(node.value, (float, complex), path)
+                    self.assertNotIn("%", str(node.value), path)
+                if isinstance(node, ast.BinOp) and isinstance(node.op, ast.Pow):
+                    self.assertIsInstance(node.right, ast.Constant, path)
+                if isinstance(node, ast.Compare):
+                    for sign, other in zip(node.ops, node.comparators):
+                        if isinstance(sign, (ast.Is, ast.IsNot)):
+                            self.assertIn(ast.unparse(other), ("None", "True", "False"), path)
+                if isinstance(node, ast.Call) and isinstance(node.func, ast.Attribute):
+                    self.assertIn(node.func.attr, METHODS | {"__init__"}, path)
+                    self.assertEqual(node.keywords, [], path)
+                if isinstance(node, (ast.Name, ast.arg, ast.Attribute, ast.FunctionDef)):
+                    word = getattr(node, "id", None) or getattr(node, "arg", None) or getattr(node, "name", None)
+                    self.assertIsNone(BARRED_WORDS.fullmatch(word or "x"), path)
+
+    def test_each_function_has_a_use_or_stands_in_the_interface(self):
+        listed = {name for functions in INTERFACE.values() for name in functions}
+        used = set()
+        for _, tree in trees():
+            used |= {node.id for node in ast.walk(tree) if isinstance(node, ast.Name)}
+        for path, tree in trees():
+            for node in tree.body:
+                if isinstance(node, ast.FunctionDef):
+                    self.assertIn(node.name, used | listed, path)
+
+    def test_no_two_files_import_from_each_other(self):
+        needs = {}
+        for path, tree in trees():
+            name = "eachinturn." + path.stem
+            needs[name] = {node.module for node in tree.body if isinstance(node, ast.ImportFrom)}
+        while needs:
+            free = [name for name, wanted in needs.items() if not wanted & set(needs)]
+            self.assertTrue(free, needs)
+            for name in free:
+                del needs[name]
+
+    def test_loops_do_not_change_what_they_go_over(self):
+        for path, tree in trees():
+            for loop in ast.walk(tree):
+                if isinstance(loop, ast.For):
+                    over = {node.id for node in ast.walk(loop.iter) if isinstance(node, ast.Name)}
+                    for node in ast.walk(ast.Module(body=loop.body, type_ignores=[])):
+                        changed = None
+                        if isinstance(node, ast.Call) and isinstance(node.func, ast.Attribute):
+                            if node.func.attr in ("append", "extend", "pop", "insert", "remove", "clear", "reverse"):
+                                changed = ast.unparse(node.func.value)
+                        self.assertNotIn(changed, over, f"{path}:{loop.lineno}")
 
 
 if __name__ == "__main__":
