@@ -1,12 +1,12 @@
 """Alike orders: those that have the same place ahead on each road."""
 
 from eachinturn.errors import BadArrows
-from eachinturn.halls import is_hall, need_web
+from eachinturn.halls import is_hall, is_state, need_web
 from eachinturn.orders import (
     arrow_counts, arrows_of, behind_exchange, can_exchange, could_be_ring, every_arrows, exchange_indexes, first_order,
     freed, mask_of, need_few_arrows, need_ordered, need_two_orders, next_pairs,
 )
-from eachinturn.rules import are_states, is_integer
+from eachinturn.rules import is_integer
 from eachinturn.steps import passed
 
 PARTING_SORTS = ("keep", "copy")
@@ -127,7 +127,7 @@ def parting_holds(web, order, other, thing):
         return False
     rules, state = thing
     hall = (2, web, rules)
-    if not is_hall(hall) or not are_states(state, 2, len(web[0])):
+    if not is_hall(hall) or not is_state(hall, state):
         return False
     if not all([rule[0] in PARTING_SORTS for rule in rules]):
         return False

@@ -1,10 +1,9 @@
 """Days carried over: what days of one order make, as days of an order that comes of it by turns."""
 
 from eachinturn.errors import BadDays, BadMoves, BadState
-from eachinturn.halls import need_hall, need_order, need_state
+from eachinturn.halls import is_state, need_hall, need_order, need_state
 from eachinturn.orders import need_few_arrows, need_ordered
 from eachinturn.rings import from_least, lengths_of, rings
-from eachinturn.rules import are_states
 from eachinturn.steps import day_list, day_numbers, need_day, passed, step_lists
 from eachinturn.turning import carry_out, first_of_classes, need_one_piece
 
@@ -30,7 +29,7 @@ def _need_ring(hall, order, thing):
     if not isinstance(thing, tuple):
         raise BadDays("this is no ring of days")
     # of states alone it is certain what they are equal to
-    if not all([are_states(state, hall[0], len(order)) for state in thing]) or thing not in rings(hall, order):
+    if not all([is_state(hall, state) for state in thing]) or thing not in rings(hall, order):
         raise BadDays("this is no ring of days of the order")
 
 

@@ -43,10 +43,11 @@ def _are_roads(thing, places):
 def _is_road(thing, places):
     if not isinstance(thing, tuple) or len(thing) != 2:
         return False
-    return all([_is_one_of(end, places) for end in thing]) and thing[0] != thing[1]
+    return all([is_one_of(end, places) for end in thing]) and thing[0] != thing[1]
 
 
-def _is_one_of(thing, places):
+def is_one_of(thing, places):
+    """Tell whether thing is one of these places."""
     # isinstance comes first: an object of another kind may be equal to anything
     return isinstance(thing, str) and thing in places
 
@@ -59,20 +60,21 @@ def need_web(web):
 
 def need_place(web, place):
     """Raise BadPlace if this is no place of the web."""
-    if not _is_one_of(place, web[0]):
+    if not is_one_of(place, web[0]):
         raise BadPlace("this is no place of the web")
 
 
 def need_order(web, order):
     """Raise BadOrder if this is no order of the web."""
-    if not _is_order(order, web[0]):
+    if not is_order(web, order):
         raise BadOrder("this is no order of the web")
 
 
-def _is_order(thing, places):
-    if not isinstance(thing, tuple) or len(thing) != len(places):
+def is_order(web, thing):
+    """Tell whether thing is an order of the web."""
+    if not isinstance(thing, tuple) or len(thing) != len(web[0]):
         return False
-    return all([_is_one_of(place, places) for place in thing]) and len(set(thing)) == len(thing)
+    return all([is_one_of(place, web[0]) for place in thing]) and len(set(thing)) == len(thing)
 
 
 def are_joined(web, one, other):
@@ -136,8 +138,13 @@ def need_hall(hall):
 
 def need_state(hall, state):
     """Raise BadState if this is no state of the hall."""
-    if not are_states(state, hall[0], len(hall[1][0])):
+    if not is_state(hall, state):
         raise BadState("this is no state of the hall")
+
+
+def is_state(hall, thing):
+    """Tell whether thing is a state of the hall."""
+    return are_states(thing, hall[0], len(hall[1][0]))
 
 
 def table_of(hall, place):

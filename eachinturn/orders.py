@@ -158,6 +158,11 @@ def every_arrows(web):
     return sorted(found)
 
 
+def first_orders(web):
+    """Return the list of the first alike orders, one for each tuple of arrows that orders of the web have."""
+    return [first_order(web, told) for told in every_arrows(web)]
+
+
 def _lead(told, start, end):
     """Tell whether arrows lead from one place to another."""
     reached = [start]

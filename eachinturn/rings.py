@@ -1,7 +1,7 @@
 """Rings of days: the states that come again and again, and what leads to them."""
 
-from eachinturn.halls import every_state, need_state, state_number
-from eachinturn.rules import are_states, is_integer
+from eachinturn.halls import every_state, is_state, need_state, state_number
+from eachinturn.rules import is_integer
 from eachinturn.steps import MOST_DAYS, day_list, far_number, need_count, need_day, need_start, walk
 
 
@@ -87,7 +87,7 @@ def return_holds(hall, order, state, thing):
     paper = return_paper(hall, order, state)
     if not isinstance(thing, tuple) or len(thing) != 3:
         return False
-    if not is_integer(thing[0]) or not is_integer(thing[1]) or not are_states(thing[2], hall[0], len(state)):
+    if not is_integer(thing[0]) or not is_integer(thing[1]) or not is_state(hall, thing[2]):
         return False
     return thing == paper
 

@@ -2,9 +2,9 @@
 
 from eachinturn.errors import BadState
 from eachinturn.halls import every_state, need_hall, need_state, state_number
-from eachinturn.orders import every_arrows, first_order, need_few_arrows
+from eachinturn.orders import first_orders, need_few_arrows
 from eachinturn.rules import is_integer
-from eachinturn.steps import day_list, day_numbers, need_day, need_start, step_lists, stepped, walk
+from eachinturn.steps import day_list, day_numbers, need_day, need_start, rest_day, step_lists, stepped, walk
 
 
 def _restless(hall, state):
@@ -59,9 +59,7 @@ def _has(state, partial):
 def days_to_rest(hall, order, state):
     """Return the first day, from 0 on, at the end of which the state stays, None if it never comes to one."""
     need_start(hall, order, state)
-    way, back = walk(day_list(hall, order), state_number(hall, state))
-    # what stays is a ring by itself
-    return back if len(way) - back == 1 else None
+    return rest_day(day_list(hall, order), state_number(hall, state))
 
 
 def _ends(numbers):
@@ -96,8 +94,7 @@ def rest_orders(hall, state, other):
     need_few_arrows(hall[1])
     steps = step_lists(hall)
     start, end = state_number(hall, state), state_number(hall, other)
-    orders = [first_order(hall[1], told) for told in every_arrows(hall[1])]
-    return sorted([order for order in orders if _comes(day_numbers(hall[1], steps, order), start, end)])
+    return sorted([order for order in first_orders(hall[1]) if _comes(day_numbers(hall[1], steps, order), start, end)])
 
 
 def _comes(numbers, start, end):

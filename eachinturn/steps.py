@@ -68,15 +68,15 @@ def _step_list(hall, states, number):
 
 def day_numbers(web, steps, order):
     """Return the list of the numbers of the states behind a day, steps being the hall's step_lists."""
-    numbers = list(range(len(steps[0])))
+    return numbers_behind(web, steps, order, list(range(len(steps[0]))))
+
+
+def numbers_behind(web, steps, order, numbers):
+    """Return the list of the numbers of the states behind a day of the states with these numbers."""
     for place in order:
-        numbers = behind(steps[web[0].index(place)], numbers)
+        made = steps[web[0].index(place)]
+        numbers = [made[number] for number in numbers]
     return numbers
-
-
-def behind(step, numbers):
-    """Return the numbers of the states that one step makes of these."""
-    return [step[number] for number in numbers]
 
 
 def day_list(hall, order):
@@ -96,6 +96,13 @@ def walk(numbers, start):
         way.append(start)
         start = numbers[start]
     return way, seen[start]
+
+
+def rest_day(numbers, start):
+    """Return the first day at the end of which a state stays, None if it never comes to one that does."""
+    way, back = walk(numbers, start)
+    # what stays is a ring by itself
+    return back if len(way) - back == 1 else None
 
 
 def far_number(numbers, start, count):

@@ -3,7 +3,7 @@
 from eachinturn.errors import BadMoves, BadPieces, BadRing
 from eachinturn.halls import are_joined, near_of, need_order, need_place, need_web, pieces
 from eachinturn.orders import (
-    arrows_of, behind_exchange, by_numbers, can_exchange, could_be_ring, every_arrows, exchange_indexes, first_order,
+    arrows_of, behind_exchange, by_numbers, can_exchange, could_be_ring, exchange_indexes, first_order, first_orders,
     free_places, need_few_arrows, need_ordered, need_two_orders, next_pairs, only_source_count,
 )
 from eachinturn.rings import from_least
@@ -227,7 +227,7 @@ def first_of_classes(web):
     """Return what classes does, for a web that is known to have few arrows."""
     told = _told_rings(web)
     firsts = {}
-    for order in [first_order(web, pairs) for pairs in every_arrows(web)]:
+    for order in first_orders(web):
         counts = tuple([_steps_forward(order, ring) for ring in told])
         if counts not in firsts or by_numbers(web, order) < by_numbers(web, firsts[counts]):
             firsts[counts] = order

@@ -1,8 +1,11 @@
 """For each function of the interface a right call, and for each kind of argument what is none of it."""
 
-from eachinturn import alike, carrying, days, halls, rings, rows, staying, turning, undoing
+from eachinturn import (
+    adding, alike, beside, carrying, days, halls, rings, rows, staying, turning, undoing, weights,
+)
 from eachinturn.errors import (
-    BadArrows, BadCount, BadDays, BadHall, BadMoves, BadOrder, BadPlace, BadRing, BadState, BadWeb,
+    BadArrows, BadCount, BadDays, BadHall, BadLengths, BadMoves, BadOrder, BadPart, BadPlace, BadRing, BadState, BadTurns,
+    BadWeb,
 )
 from tests.helpers import EIGHT, H, H_TEXT, PAIRS, WEB, as_lists, never_right, odd_objects
 
@@ -11,6 +14,8 @@ ONE, TWO = (1, 0, 0), (0, 1, 1)
 TRIANGLE = (ABC, (("a", "b"), ("b", "c"), ("c", "a")))
 UNDOABLE = (2, WEB, (("odd",), ("keep",), ("odd",)))
 MOVES = [("turn",), ("swap", 1)]
+QUIET = (2, WEB, (("most", 1), ("most", 2), ("most", 1)))
+OTHER_HALL = (2, (("y", "x"), (("x", "y"),)), (("copy", "x"), ("odd",)))
 BACK = [("turn",), ("swap", 1), ("swap", 1), ("turn",), ("turn",)]
 
 # Each function with its arguments by name, in their sequence; what judges any object has a right one of it.
@@ -93,6 +98,25 @@ CALLS = [
     (undoing.day_before, {"hall": UNDOABLE, "order": BAC, "state": ONE}),
     (undoing.far_before, {"hall": UNDOABLE, "order": BAC, "state": ONE, "count": 3}),
     (undoing.turned_about, {"hall": H, "order": BAC}),
+    (weights.weight, {"hall": QUIET, "state": ONE}),
+    (weights.weights_down, {"hall": QUIET, "order": ABC, "state": TWO}),
+    (weights.rest_bound, {"hall": QUIET}),
+    (weights.lightest, {"hall": QUIET}),
+    (weights.rest_reached, {"hall": QUIET, "state": (1, 1, 0)}),
+    (weights.rest_steps, {"hall": QUIET, "state": (1, 1, 0), "other": (0, 0, 0)}),
+    (weights.rest_steps_hold, {"hall": QUIET, "state": (1, 1, 0), "other": (0, 0, 0), "thing": ("b", "c", "a")}),
+    (adding.day_matrix, {"hall": H, "order": BAC}),
+    (adding.matrix_power, {"hall": H, "order": BAC, "count": 3}),
+    (adding.sum_of, {"hall": H, "state": ONE, "other": TWO}),
+    (adding.kernel, {"hall": H, "order": BAC}),
+    (adding.least_round, {"hall": UNDOABLE, "order": BAC}),
+    (beside.beside, {"hall": H, "other": OTHER_HALL}),
+    (beside.woven_order, {
+        "hall": H, "other": OTHER_HALL, "order": BAC, "second": ("x", "y"), "turns": (0, 1, 0, 0, 1),
+    }),
+    (beside.beside_lengths, {"lengths": [(1, 2), (4, 1)], "others": [(2, 1), (6, 3)]}),
+    (beside.part_of, {"hall": H, "places": ABC}),
+    (beside.split_lengths, {"hall": H, "order": BAC}),
 ]
 
 # What raises no error but for what stands ahead of it.
@@ -100,14 +124,17 @@ ANY = ("thing", "text")
 ERRORS = {
     "web": BadWeb, "hall": BadHall, "place": BadPlace, "state": BadState, "order": BadOrder, "few": BadCount,
     "far": BadCount, "arrows": BadArrows, "ring": BadRing, "moves": BadMoves, "days": BadDays, "partial": BadState,
-    "resting": BadState, "on a ring": BadState,
+    "resting": BadState, "on a ring": BadState, "reached": BadState, "turns": BadTurns, "lengths": BadLengths,
+    "places": BadPart,
 }
 # Arguments of which more, or something else, is wanted than their names tell.
 KINDS = {
     ("same_far", "other"): "state", ("meet", "other"): "state", ("rest_orders", "other"): "resting",
     ("carried_ring", "ring"): "days", ("match_shift", "state"): "on a ring",
     ("story", "count"): "few", ("watched", "count"): "few", ("after", "count"): "far", ("same_far", "count"): "far",
-    ("far_before", "count"): "far",
+    ("far_before", "count"): "far", ("matrix_power", "count"): "far", ("sum_of", "other"): "state",
+    ("rest_steps", "other"): "reached", ("rest_steps_hold", "other"): "reached", ("beside", "other"): "hall",
+    ("woven_order", "other"): "hall", ("woven_order", "second"): "order", ("beside_lengths", "others"): "lengths",
 }
 
 
@@ -161,6 +188,23 @@ NEAR_PARTIALS = [
     (None, None), (None,) * 4, (2, None, None), (True, None, None), (None, False, 0), [None, None, None], (None, "0", 0),
     (None, -1, None), (None, (), None), ((0, None, 0),),
 ]
+NEAR_TURNS = [
+    (0, 0, 0, 1), (0, 0, 0, 1, 1, 1), (0, 0, 0, 0, 1), (0, 0, 1, 1, 1), (0, 0, 0, 1, True), (False, 0, 0, 1, 1),
+    (0, 0, 0, 1, 2), (0, 0, 0, 1, -1), "00011", (0, 0, 0, 1, None), ((0, 0, 0), (1, 1)), (0,) * 5, (1,) * 5,
+]
+NEAR_LENGTHS = [
+    [(2, 1), (1, 1)], [(2, 1), (2, 1)], [(2, 1), (2, 2)], [(0, 1)], [(1, 0)], [(True, 1)], [(1, True)], [(1, 1, 1)],
+    [[1, 1]], ((1, 1),), [1], [(1, "1")], [(1, 1), None], {1: 1},
+]
+NEAR_PARTS = [
+    ("b", "a", "c"), ("a", "b", "b", "c"), ("a",), ("b", "c"), ("a", "c"), ("a", "b", "c", "z"), ("a", "b", None), "abc",
+    (0, 1, 2), ("a", "b", True), {"a": 0, "b": 1, "c": 2}, (ABC,),
+]
+
+
+def no_lists(right):
+    """Odd objects but for the empty list."""
+    return [thing for thing in odd_objects() if not isinstance(thing, list) or thing]
 
 
 def no_counts(beyond):
@@ -182,11 +226,15 @@ WRONG = {
         NEAR_ARROWS[1:] if len(right) == 2 else []
     ),
     "ring": lambda right: odd_objects() + NEAR_RINGS,
-    "moves": lambda right: [thing for thing in odd_objects() if not isinstance(thing, list) or thing] + NEAR_MOVES,
+    "moves": lambda right: no_lists(right) + NEAR_MOVES,
     "days": lambda right: odd_objects() + NEAR_DAYS + list(as_lists(right)),
     "partial": lambda right: odd_objects() + NEAR_PARTIALS + list(as_lists(right)),
     "resting": lambda right: odd_objects() + NEAR_STATES + [(1, 0, 0), (0, 1, 1)],
     "on a ring": lambda right: odd_objects() + NEAR_STATES,
+    "reached": lambda right: odd_objects() + NEAR_STATES + [(1, 0, 0), (1, 1, 0), (0, 1, 1)],
+    "turns": lambda right: odd_objects() + NEAR_TURNS + list(as_lists(right)),
+    "lengths": lambda right: no_lists(right) + NEAR_LENGTHS,
+    "places": lambda right: odd_objects() + NEAR_PARTS + list(as_lists(right)),
 }
 
 

@@ -222,6 +222,15 @@ def some_undoable_rule(chance, k, around):
     return ("table", table)
 
 
+def some_quiet_rule(chance, k, around):
+    """The rule most with a number that can come to be, or just not."""
+    return ("most", chance.randrange(len(around) + 2))
+
+
+def some_adding_rule(chance, k, around):
+    return chance.choice([("odd",), ("odd",), ("keep",)] + [("copy", place) for place in around])
+
+
 def some_hall(web, k, seed, rule=some_rule):
     chance = random.Random(seed)
     return (k, web, tuple(rule(chance, k, near(web, place)) for place in web[0]))
@@ -233,6 +242,13 @@ def small_halls(many=2, rule=some_rule):
         for web in SMALL_WEBS.values():
             for seed in range(many):
                 yield some_hall(web, k, seed, rule)
+
+
+def quiet_halls(many=3):
+    """Quiet halls on the small webs."""
+    for web in SMALL_WEBS.values():
+        for seed in range(many):
+            yield some_hall(web, 2, seed, some_quiet_rule)
 
 
 # 256 states and 243

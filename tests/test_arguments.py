@@ -101,7 +101,7 @@ class WrongArgumentsTest(unittest.TestCase):
         states = ((True, 0, 0), (0, True, 0), (0, 0, False), (True, True, True), (False, False, False))
         for function, arguments in CALLS:
             for name in told_names(function, arguments):
-                if kind_of(function, name) in ("state", "resting", "on a ring"):
+                if kind_of(function, name) in ("state", "resting", "on a ring", "reached"):
                     for state in states:
                         self.assertIs(error_of(function, {**arguments, name: state}), BadState, function.__name__)
 

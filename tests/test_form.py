@@ -8,6 +8,8 @@ import pathlib
 import re
 import unittest
 
+from tests.calls import CALLS
+
 ROOT = pathlib.Path(__file__).resolve().parent.parent
 PACKAGE = ROOT / "eachinturn"
 
@@ -61,6 +63,19 @@ INTERFACE = {
         "day_before": ["hall", "order", "state"], "far_before": ["hall", "order", "state", "count"],
         "turned_about": ["hall", "order"],
     },
+    "eachinturn.weights": {
+        "weight": ["hall", "state"], "weights_down": ["hall", "order", "state"], "rest_bound": ["hall"],
+        "lightest": ["hall"], "rest_reached": ["hall", "state"], "rest_steps": ["hall", "state", "other"],
+        "rest_steps_hold": ["hall", "state", "other", "thing"],
+    },
+    "eachinturn.adding": {
+        "day_matrix": ["hall", "order"], "matrix_power": ["hall", "order", "count"],
+        "sum_of": ["hall", "state", "other"], "kernel": ["hall", "order"], "least_round": ["hall", "order"],
+    },
+    "eachinturn.beside": {
+        "beside": ["hall", "other"], "woven_order": ["hall", "other", "order", "second", "turns"],
+        "beside_lengths": ["lengths", "others"], "part_of": ["hall", "places"], "split_lengths": ["hall", "order"],
+    },
 }
 
 BUILTINS = set(
@@ -91,6 +106,11 @@ class InterfaceTest(unittest.TestCase):
                     self.assertEqual([parameter.name for parameter in found], arguments)
                     self.assertEqual({parameter.kind.name for parameter in found}, {"POSITIONAL_OR_KEYWORD"})
                     self.assertTrue(all(parameter.default is parameter.empty for parameter in found))
+
+
+    def test_each_function_is_among_the_calls(self):
+        called = sorted((function.__module__, function.__name__) for function, _ in CALLS)
+        self.assertEqual(called, sorted((module, name) for module, told in INTERFACE.items() for name in told))
 
 
 class FilesTest(unittest.TestCase):
