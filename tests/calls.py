@@ -1,11 +1,11 @@
 """For each function of the interface a right call, and for each kind of argument what is none of it."""
 
 from eachinturn import (
-    adding, alike, beside, carrying, days, halls, rings, rows, staying, turning, undoing, weights,
+    adding, alike, beside, best, carrying, days, halls, rings, rows, samples, staying, turning, undoing, weights,
 )
 from eachinturn.errors import (
-    BadArrows, BadCount, BadDays, BadHall, BadLengths, BadMoves, BadOrder, BadPart, BadPlace, BadRing, BadState, BadTurns,
-    BadWeb,
+    BadArrows, BadCount, BadDays, BadHall, BadLengths, BadMoves, BadOrder, BadOrders, BadPart, BadPlace, BadRing,
+    BadSamples, BadState, BadTurns, BadWeb,
 )
 from tests.helpers import EIGHT, H, H_TEXT, PAIRS, WEB, as_lists, never_right, odd_objects
 
@@ -16,6 +16,7 @@ UNDOABLE = (2, WEB, (("odd",), ("keep",), ("odd",)))
 MOVES = [("turn",), ("swap", 1)]
 QUIET = (2, WEB, (("most", 1), ("most", 2), ("most", 1)))
 OTHER_HALL = (2, (("y", "x"), (("x", "y"),)), (("copy", "x"), ("odd",)))
+SAMPLES = ((ONE, (1, 1, 1)), (TWO, (0, 0, 0)))
 BACK = [("turn",), ("swap", 1), ("swap", 1), ("turn",), ("turn",)]
 
 # Each function with its arguments by name, in their sequence; what judges any object has a right one of it.
@@ -117,6 +118,19 @@ CALLS = [
     (beside.beside_lengths, {"lengths": [(1, 2), (4, 1)], "others": [(2, 1), (6, 3)]}),
     (beside.part_of, {"hall": H, "places": ABC}),
     (beside.split_lengths, {"hall": H, "order": BAC}),
+    (samples.fitting_arrows, {"hall": H, "samples": SAMPLES}),
+    (samples.fits, {"hall": H, "order": BAC, "samples": SAMPLES}),
+    (samples.sure_arrows, {"hall": H, "samples": SAMPLES}),
+    (samples.asking, {"hall": H, "orders": [ABC, BAC, CAB, BAC]}),
+    (samples.unlike_state, {"hall": H, "order": ABC, "other": BAC}),
+    (samples.like_days, {"hall": H}),
+    (samples.sample_fault, {"hall": H, "samples": SAMPLES + ((ONE, TWO), (TWO, ONE))}),
+    (best.quickest, {"hall": H, "state": ONE}),
+    (best.slowest, {"hall": H, "state": ONE}),
+    (best.longest_ring, {"hall": UNDOABLE}),
+    (best.fewest_rings, {"hall": UNDOABLE}),
+    (best.better_swap, {"hall": H, "order": ABC, "state": TWO}),
+    (best.order_score, {"hall": H, "order": BAC}),
 ]
 
 # What raises no error but for what stands ahead of it.
@@ -125,7 +139,7 @@ ERRORS = {
     "web": BadWeb, "hall": BadHall, "place": BadPlace, "state": BadState, "order": BadOrder, "few": BadCount,
     "far": BadCount, "arrows": BadArrows, "ring": BadRing, "moves": BadMoves, "days": BadDays, "partial": BadState,
     "resting": BadState, "on a ring": BadState, "reached": BadState, "turns": BadTurns, "lengths": BadLengths,
-    "places": BadPart,
+    "places": BadPart, "samples": BadSamples, "orders": BadOrders,
 }
 # Arguments of which more, or something else, is wanted than their names tell.
 KINDS = {
@@ -200,11 +214,24 @@ NEAR_PARTS = [
     ("b", "a", "c"), ("a", "b", "b", "c"), ("a",), ("b", "c"), ("a", "c"), ("a", "b", "c", "z"), ("a", "b", None), "abc",
     (0, 1, 2), ("a", "b", True), {"a": 0, "b": 1, "c": 2}, (ABC,),
 ]
+NEAR_SAMPLES = [
+    ((ONE, TWO),) * 21, (ONE, TWO), ((ONE, TWO, ONE),), ((ONE,),), ((ONE, (0, 1)),), ((ONE, (True, 0, 0)),), (ONE,),
+    ((ONE, (0, 1, 2)),), ((ONE, None),), (None, (ONE, TWO)), ((ONE, TWO), ((0, 1, 1, 0), ONE)), {ONE: TWO}, [(ONE, TWO)],
+    ((4, 3),), (("100", "011"),),
+]
+NEAR_ORDER_LISTS = [
+    [ABC], (ABC,), [ABC] * 101, (ABC,) * 101, [], (), [ABC, ("a", "b")], [ABC, list(ABC)], [ABC, None], (ABC, "abc"),
+    {ABC: BAC, BAC: ABC}, {ABC, BAC}, ABC, [ABC, ABC + ("a",)], [ABC, ("a", "b", "b")], [ABC, (0, 1, 2)],
+]
+
+
+def is_empty(thing, kind):
+    return type(thing) is kind and len(thing) == 0
 
 
 def no_lists(right):
     """Odd objects but for the empty list."""
-    return [thing for thing in odd_objects() if not isinstance(thing, list) or thing]
+    return [thing for thing in odd_objects() if not is_empty(thing, list)]
 
 
 def no_counts(beyond):
@@ -235,6 +262,10 @@ WRONG = {
     "turns": lambda right: odd_objects() + NEAR_TURNS + list(as_lists(right)),
     "lengths": lambda right: no_lists(right) + NEAR_LENGTHS,
     "places": lambda right: odd_objects() + NEAR_PARTS + list(as_lists(right)),
+    "samples": lambda right: [thing for thing in odd_objects() if not is_empty(thing, tuple)] + NEAR_SAMPLES + list(
+        as_lists(right)
+    ),
+    "orders": lambda right: odd_objects() + NEAR_ORDER_LISTS,
 }
 
 

@@ -61,6 +61,11 @@ JUST_MANY = (
     (("a", "b"), ("a", "c"), ("a", "e"), ("a", "f"), ("b", "d"), ("c", "g"), ("d", "e"), ("d", "f"), ("e", "g"),
      ("f", "g")),
 )
+# Two rings of five that share the road (c, d): 450 arrows
+EIGHT_WITH_RINGS = (
+    ("h", "c", "a", "b", "g", "f", "e", "d"),
+    (("d", "c"), ("a", "b"), ("c", "a"), ("b", "h"), ("h", "d"), ("f", "c"), ("g", "f"), ("g", "e"), ("d", "e")),
+)
 
 
 def joined(web, one, other):
@@ -89,6 +94,14 @@ def by_numbers(web, order):
 def arrows_of(web, order):
     ahead = {place: at for at, place in enumerate(order)}
     return tuple(tuple(sorted(road, key=ahead.get)) for road in web[1])
+
+
+def firsts_of(web):
+    """A dict of the first order, by numbers, of each tuple of arrows; it is not to be changed."""
+    firsts = {}
+    for order in orders_of(web):
+        firsts.setdefault(arrows_of(web, order), order)
+    return firsts
 
 
 def forward_of(order, ring):

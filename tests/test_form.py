@@ -5,7 +5,10 @@ import builtins
 import importlib
 import inspect
 import pathlib
+import random
 import re
+import subprocess
+import sys
 import unittest
 
 from tests.calls import CALLS
@@ -76,6 +79,27 @@ INTERFACE = {
         "beside": ["hall", "other"], "woven_order": ["hall", "other", "order", "second", "turns"],
         "beside_lengths": ["lengths", "others"], "part_of": ["hall", "places"], "split_lengths": ["hall", "order"],
     },
+    "eachinturn.samples": {
+        "fitting_arrows": ["hall", "samples"], "fits": ["hall", "order", "samples"], "sure_arrows": ["hall", "samples"],
+        "asking": ["hall", "orders"], "unlike_state": ["hall", "order", "other"], "like_days": ["hall"],
+        "sample_fault": ["hall", "samples"],
+    },
+    "eachinturn.best": {
+        "quickest": ["hall", "state"], "slowest": ["hall", "state"], "longest_ring": ["hall"], "fewest_rings": ["hall"],
+        "better_swap": ["hall", "order", "state"], "order_score": ["hall", "order"],
+    },
+}
+
+# Classes with the arguments of each of their methods, that of the start, too.
+CLASSES = {
+    "eachinturn.session": {
+        "Session": {
+            "__init__": ["hall", "order", "state"], "pass_days": ["count"], "turn": [], "exchange": ["index"],
+            "put": ["place", "state"], "rule": ["place", "rule"], "undo": [], "hall": [], "order": [], "state": [],
+            "days": [], "ring": [], "rested": [], "copy": [], "__eq__": ["other"],
+        },
+    },
+    "eachinturn.desk": {"Desk": {"__init__": [], "say": ["row"], "session": []}},
 }
 
 BUILTINS = set(
@@ -111,6 +135,19 @@ class InterfaceTest(unittest.TestCase):
     def test_each_function_is_among_the_calls(self):
         called = sorted((function.__module__, function.__name__) for function, _ in CALLS)
         self.assertEqual(called, sorted((module, name) for module, told in INTERFACE.items() for name in told))
+
+
+    def test_classes_stand_in_their_files_with_their_methods(self):
+        for module_name, classes in CLASSES.items():
+            module = importlib.import_module(module_name)
+            for name, methods in classes.items():
+                found = getattr(module, name)
+                self.assertEqual((found.__module__, found.__bases__), (module_name, (object,)))
+                for method, arguments in methods.items():
+                    parameters = list(inspect.signature(vars(found)[method]).parameters.values())[1:]
+                    self.assertEqual([parameter.name for parameter in parameters], arguments, method)
+                    self.assertTrue(all(parameter.default is parameter.empty for parameter in parameters))
+                self.assertEqual({method for method in vars(found) if method[0] != "_"} - set(methods), set())
 
 
 class FilesTest(unittest.TestCase):
@@ -152,6 +189,14 @@ def trees():
         yield path, ast.parse(path.read_text())
 
 
+def own_methods():
+    """The names of the methods of the package's classes."""
+    return {
+        node.name for _, tree in trees() for found in tree.body if isinstance(found, ast.ClassDef)
+        for node in found.body if isinstance(node, ast.FunctionDef)
+    }
+
+
 def bound_names(tree):
     """Names that functions bind: parameters and targets, those of comprehensions, too."""
     for node in ast.walk(tree):
@@ -185,6 +230,7 @@ class LanguageTest(unittest.TestCase):
             self.assertLessEqual(imports, used, path)
 
     def test_what_the_language_has_not(self):
+        methods = METHODS | own_methods()
         for path, tree in trees():
             for node in ast.walk(tree):
                 self.assertNotIsInstance(
@@ -200,7 +246,7 @@ class LanguageTest(unittest.TestCase):
                         if isinstance(sign, (ast.Is, ast.IsNot)):
                             self.assertIn(ast.unparse(other), ("None", "True", "False"), path)
                 if isinstance(node, ast.Call) and isinstance(node.func, ast.Attribute):
-                    self.assertIn(node.func.attr, METHODS | {"__init__"}, path)
+                    self.assertIn(node.func.attr, methods | {"__init__"}, path)
                     self.assertEqual(node.keywords, [], path)
                 if isinstance(node, (ast.Name, ast.arg, ast.Attribute, ast.FunctionDef)):
                     word = getattr(node, "id", None) or getattr(node, "arg", None) or getattr(node, "name", None)
@@ -216,6 +262,23 @@ class LanguageTest(unittest.TestCase):
                 if isinstance(node, ast.FunctionDef):
                     self.assertIn(node.name, used | listed, path)
 
+    def test_each_method_has_a_use_or_stands_in_the_interface(self):
+        listed = {method for classes in CLASSES.values() for methods in classes.values() for method in methods}
+        called = {
+            node.attr for _, tree in trees() for node in ast.walk(tree) if isinstance(node, ast.Attribute)
+        }
+        self.assertLessEqual(own_methods(), listed | called)
+
+    def test_attributes_and_methods_have_names_of_their_own(self):
+        for path, tree in trees():
+            for found in [node for node in tree.body if isinstance(node, ast.ClassDef)]:
+                methods = {node.name for node in found.body if isinstance(node, ast.FunctionDef)}
+                stored = {
+                    node.attr for node in ast.walk(found)
+                    if isinstance(node, ast.Attribute) and isinstance(node.ctx, ast.Store)
+                }
+                self.assertFalse(methods & stored, path)
+
     def test_no_two_files_import_from_each_other(self):
         needs = {}
         for path, tree in trees():
@@ -226,6 +289,20 @@ class LanguageTest(unittest.TestCase):
             self.assertTrue(free, needs)
             for name in free:
                 del needs[name]
+
+    def test_the_files_import_in_any_sequence(self):
+        names = ["eachinturn." + path.stem for path in files() if path.stem != "__init__"]
+        self.assertEqual(set(names) - set(INTERFACE) - set(CLASSES), {
+            "eachinturn.errors", "eachinturn.rules", "eachinturn.steps", "eachinturn.orders",
+        })
+        chance = random.Random(5)
+        for some in [names[at:] + names[:at] for at in range(len(names))] + [
+            chance.sample(names, len(names)) for _ in range(5)
+        ]:
+            # in a Python of its own, where no file is imported yet
+            rows = "; ".join(f"import {name}" for name in some)
+            done = subprocess.run([sys.executable, "-B", "-c", rows], cwd=ROOT, capture_output=True, text=True)
+            self.assertEqual((done.returncode, done.stderr), (0, ""), some)
 
     def test_loops_do_not_change_what_they_go_over(self):
         for path, tree in trees():

@@ -15,13 +15,13 @@ class ReadmeTest(unittest.TestCase):
             rows = block.split("\n")
             for node in ast.parse(block).body:
                 source = ast.get_source_segment(block, node)
-                if isinstance(node, ast.Expr):
-                    _, _, told = rows[node.end_lineno - 1].partition("#")
+                _, sign, told = rows[node.end_lineno - 1].partition("#")
+                if isinstance(node, ast.Expr) and sign:
                     self.assertEqual(eval(source, names), ast.literal_eval(told.strip()), source)
                     some += 1
                 else:
                     exec(source, names)
-        self.assertGreater(some, 20)
+        self.assertGreater(some, 50)
 
 
 if __name__ == "__main__":
